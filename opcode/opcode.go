@@ -68,11 +68,16 @@ const (
 	Push0
 )
 
-// The first of each row of numbered instructions (Push0 stands above).
+// The first and the last of each row of numbered instructions (Push0 stands
+// above).
 const (
-	Dup1  uint8 = 128
-	Swap1 uint8 = 144
-	Log0  uint8 = 160
+	Push32 uint8 = Push0 + 32
+	Dup1   uint8 = 128
+	Dup16  uint8 = 143
+	Swap1  uint8 = 144
+	Swap16 uint8 = 159
+	Log0   uint8 = 160
+	Log4   uint8 = 164
 )
 
 const (
