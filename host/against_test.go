@@ -11,7 +11,7 @@ import (
 
 // This is the machine once more, in another way: places are great numbers, an
 // instruction takes all the words that it looks at and lays all that it leaves,
-// and a message works upon a copy of the world.
+// and all that a message or a call may change is copied ahead of it.
 
 type plainAccount struct {
 	balance api.Word
@@ -45,6 +45,15 @@ func (w plainWorld) copied() plainWorld {
 func (w plainWorld) pay(at, amount api.Word, op uint8) {
 	a := w[at]
 	a.balance, _ = word.Calc(op, a.balance, amount, none)
+	w[at] = a
+}
+
+func (w plainWorld) store(at, key, value api.Word) {
+	a := w[at]
+	if a.slots == nil {
+		a.slots = map[api.Word]api.Word{}
+	}
+	a.slots[key] = value
 	w[at] = a
 }
 
@@ -95,6 +104,17 @@ func byteOf(s string, from api.Word, i int) byte {
 	return s[at.Int64()]
 }
 
+// plainState is all that a message changes. It is copied ahead of each call.
+type plainState struct {
+	world   plainWorld
+	passing map[[2]api.Word]api.Word
+	logs    []api.Log
+}
+
+func (s *plainState) copied() plainState {
+	return plainState{s.world.copied(), maps.Clone(s.passing), slices.Clone(s.logs)}
+}
+
 // send gives the world behind a message too.
 func (w plainWorld) send(m api.Message) (plainWorld, api.Result, api.Errno) {
 	if m.Gas < 0 || m.Gas > 100000 || len(m.Data) > 500 {
@@ -103,33 +123,41 @@ func (w plainWorld) send(m api.Message) (plainWorld, api.Result, api.Errno) {
 	if great(w[m.From].balance).Cmp(great(m.Value)) < 0 {
 		return w, api.Result{}, api.ErrFunds
 	}
-	next := w.copied()
-	next.pay(m.From, m.Value, 3)
-	next.pay(m.To, m.Value, 1)
-	p := &plainFrame{world: next, m: m, code: w[m.To].code, gas: m.Gas, passing: map[api.Word]api.Word{}}
-	for p.step() {
-	}
-	switch p.end {
-	case api.Done:
-		return next, api.Result{Gas: p.gas, Output: p.output, Logs: p.logs}, api.OK
-	case api.Reverted:
-		return w, api.Result{Status: api.Reverted, Gas: p.gas, Output: p.output}, api.OK
-	}
-	return w, api.Result{Status: api.Failed}, api.OK
+	state := &plainState{world: w.copied(), passing: map[[2]api.Word]api.Word{}}
+	p := &plainFrame{state: state, m: m, code: w[m.To].code, gas: m.Gas, depth: 1}
+	p.live(m.From, m.To, m.Value)
+	return state.world, api.Result{Status: p.end, Gas: p.gas, Output: p.output, Logs: state.logs}, api.OK
 }
 
+// plainFrame has in its message what it was given.
 type plainFrame struct {
-	world   plainWorld
-	m       api.Message
-	code    string
-	at      int
-	gas     int
-	stack   []api.Word
-	memory  []byte
-	passing map[api.Word]api.Word
-	logs    []api.Log
-	end     uint8
-	output  string
+	state    *plainState
+	m        api.Message
+	code     string
+	at       int
+	gas      int
+	depth    int
+	reads    bool
+	stack    []api.Word
+	memory   []byte
+	returned string
+	end      uint8
+	output   string
+}
+
+// live is the frame from its money to its end.
+func (p *plainFrame) live(from, to, amount api.Word) {
+	ahead := p.state.copied()
+	p.state.world.pay(from, amount, 3)
+	p.state.world.pay(to, amount, 1)
+	for p.step() {
+	}
+	if p.end != api.Done {
+		*p.state = ahead
+	}
+	if p.end == api.Failed {
+		p.gas, p.output = 0, ""
+	}
 }
 
 // step says whether the frame goes on.
@@ -146,7 +174,7 @@ func (p *plainFrame) step() bool {
 	w := slices.Clone(p.stack[rest:])
 	slices.Reverse(w)
 	p.stack = p.stack[:rest]
-	if !p.spend(big.NewInt(int64(plainCost(op)))) || !p.speak(op, w) {
+	if !p.spend(big.NewInt(int64(plainCost(op)))) || !p.speak(op, w) || p.reads && writes(op, w) {
 		return false
 	}
 	if op == 0 || op == 243 || op == 253 {
@@ -163,12 +191,57 @@ func (p *plainFrame) step() bool {
 		}
 		next = int(w[0][0])
 	}
-	if op == 62 && w[2] != none {
-		return false // nothing was returned
+	if op == 62 && w[2] != none && new(big.Int).Add(great(w[1]), great(w[2])).Cmp(big.NewInt(int64(len(p.returned)))) > 0 {
+		return false
 	}
 	p.stack = append(p.stack, p.work(op, w)...)
 	p.at = next
 	return len(p.stack) <= 1024
+}
+
+// writes: what a frame that may only read may not do.
+func writes(op int, w []api.Word) bool {
+	return op == 85 || op == 93 || op >= 160 && op <= 164 || op == 241 && w[2] != none
+}
+
+// call gives the word that is laid. Its words are, behind a value of 0 where
+// there is none, the same for all three.
+func (p *plainFrame) call(op int, w []api.Word) api.Word {
+	if op != 241 {
+		w = slices.Insert(slices.Clone(w), 2, none)
+	}
+	p.returned = ""
+	if p.depth == 16 || great(p.state.world[p.m.To].balance).Cmp(great(w[2])) < 0 {
+		return none
+	}
+	q := &plainFrame{state: p.state, code: p.state.world[w[1]].code, depth: p.depth + 1, reads: p.reads}
+	switch op {
+	case 241:
+		q.m = api.Message{From: p.m.To, To: w[1], Value: w[2]}
+	case 244:
+		q.m = p.m
+	case 250:
+		q.m = api.Message{From: p.m.To, To: w[1]}
+		q.reads = true
+	}
+	q.m.Data = string(p.part(w[3], w[4]))
+	q.gas = p.gas - p.gas/64
+	if great(w[0]).Cmp(big.NewInt(int64(q.gas))) < 0 {
+		q.gas = int(w[0][0])
+	}
+	p.gas -= q.gas
+	q.live(p.m.To, w[1], w[2])
+	p.gas += q.gas
+	p.returned = q.output
+	for i := range int(w[6][0]) {
+		if i < len(q.output) {
+			p.memory[int(w[5][0])+i] = q.output[i]
+		}
+	}
+	if q.end == api.Done {
+		return n(1)
+	}
+	return none
 }
 
 func (p *plainFrame) spend(gas *big.Int) bool {
@@ -204,7 +277,7 @@ func (p *plainFrame) mayJump(place api.Word) bool {
 func plainCost(op int) int {
 	for cost, list := range map[int][]int{
 		0: {0, 243, 253}, 1: {91}, 2: {48, 51, 52, 54, 56, 61, 80, 88, 89, 90}, 8: {86}, 10: {10, 87},
-		100: {49, 84, 92, 93}, 200: {85}, 300: {160, 161, 162, 163, 164},
+		100: {49, 84, 92, 93, 241, 244, 250}, 200: {85}, 300: {160, 161, 162, 163, 164},
 	} {
 		if slices.Contains(list, op) {
 			return cost
@@ -240,6 +313,12 @@ func (p *plainFrame) speak(op int, w []api.Word) bool {
 		parts = append(parts, [2]api.Word{w[0], w[2]})
 		more.Add(great(w[2]), big.NewInt(31))
 		more.Div(more, big.NewInt(32)).Mul(more, big.NewInt(3))
+	case isCall(op):
+		last := w[len(w)-4:]
+		parts = append(parts, [2]api.Word{last[0], last[1]}, [2]api.Word{last[2], last[3]})
+		if op == 241 && w[2] != none {
+			more.SetInt64(900)
+		}
 	}
 	for _, part := range parts {
 		end := new(big.Int).Add(great(part[0]), great(part[1]))
@@ -266,7 +345,7 @@ func (p *plainFrame) part(place, count api.Word) []byte {
 
 // work gives the words that are laid, the lowest first.
 func (p *plainFrame) work(op int, w []api.Word) []api.Word {
-	self := p.world[p.m.To]
+	self := p.state.world[p.m.To]
 	switch {
 	case isReckoning(op):
 		all := append(slices.Clone(w), none, none)
@@ -283,31 +362,33 @@ func (p *plainFrame) work(op int, w []api.Word) []api.Word {
 		slices.Reverse(w)
 		return w
 	case op >= 160 && op <= 164:
-		p.logs = append(p.logs, api.Log{At: p.m.To, Topics: w[2:], Data: string(p.part(w[0], w[1]))})
+		p.state.logs = append(p.state.logs, api.Log{At: p.m.To, Topics: w[2:], Data: string(p.part(w[0], w[1]))})
 	}
 	switch op {
 	case 85:
-		self.slots[w[0]] = w[1]
+		p.state.world.store(p.m.To, w[0], w[1])
 	case 93:
-		p.passing[w[0]] = w[1]
-	case 55, 57, 82, 83, 94:
+		p.state.passing[[2]api.Word{p.m.To, w[0]}] = w[1]
+	case 241, 244, 250:
+		return []api.Word{p.call(op, w)}
+	case 55, 57, 62, 82, 83, 94:
 		p.write(op, w)
 	}
 	asked := map[int]func() api.Word{
 		48: func() api.Word { return p.m.To },
-		49: func() api.Word { return p.world[w[0]].balance },
+		49: func() api.Word { return p.state.world[w[0]].balance },
 		51: func() api.Word { return p.m.From },
 		52: func() api.Word { return p.m.Value },
 		53: func() api.Word { return read(p.m.Data, w[0], 32) },
 		54: func() api.Word { return n(len(p.m.Data)) },
 		56: func() api.Word { return n(len(p.code)) },
-		61: func() api.Word { return none },
+		61: func() api.Word { return n(len(p.returned)) },
 		81: func() api.Word { return read(string(p.memory), w[0], 32) },
 		84: func() api.Word { return self.slots[w[0]] },
 		88: func() api.Word { return n(p.at) },
 		89: func() api.Word { return n(len(p.memory)) },
 		90: func() api.Word { return n(p.gas) },
-		92: func() api.Word { return p.passing[w[0]] },
+		92: func() api.Word { return p.state.passing[[2]api.Word{p.m.To, w[0]}] },
 	}
 	if f, ok := asked[op]; ok {
 		return []api.Word{f()}
@@ -324,6 +405,8 @@ func (p *plainFrame) write(op int, w []api.Word) {
 		source = p.m.Data
 	case 57:
 		source = p.code
+	case 62:
+		source = p.returned
 	case 94:
 		source = was
 	case 82:

@@ -4,10 +4,11 @@ import "cinder/opcode"
 
 // What an instruction costs beyond its base cost.
 const (
-	stepCost     = 3  // for each new step of memory
-	copyCost     = 3  // for each word's bytes that are begun
-	exponentCost = 10 // for each byte of the exponent
-	logCost      = 8  // for each byte
+	stepCost     = 3   // for each new step of memory
+	copyCost     = 3   // for each word's bytes that are begun
+	exponentCost = 10  // for each byte of the exponent
+	logCost      = 8   // for each byte
+	valueCost    = 900 // for a call that brings money
 )
 
 // baseCost gives the gas that the instruction costs at the least, and whether
@@ -28,7 +29,8 @@ func baseCost(op uint8) (int, bool) {
 		return 8, true
 	case opcode.Jumpi, opcode.Exp:
 		return 10, true
-	case opcode.Balance, opcode.Sload, opcode.Tload, opcode.Tstore:
+	case opcode.Balance, opcode.Sload, opcode.Tload, opcode.Tstore,
+		opcode.Call, opcode.Delegatecall, opcode.Staticcall:
 		return 100, true
 	case opcode.Sstore:
 		return 200, true
@@ -66,4 +68,8 @@ func isSwap(op uint8) bool {
 
 func isLog(op uint8) bool {
 	return opcode.Log0 <= op && op <= opcode.Log4
+}
+
+func isCall(op uint8) bool {
+	return op == opcode.Call || op == opcode.Delegatecall || op == opcode.Staticcall
 }

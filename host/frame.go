@@ -28,6 +28,7 @@ type frame struct {
 	data                string
 	gas                 int
 	onlyReads           bool
+	depth               int
 	stack               stack
 	memory              []byte
 	returned            string
@@ -110,6 +111,8 @@ func (f *frame) do(op uint8) {
 		f.stack.swap(int(op-opcode.Swap1) + 1)
 	case isLog(op):
 		f.log(int(op - opcode.Log0))
+	case isCall(op):
+		f.call(op)
 	default:
 		f.doEnd(op)
 	}

@@ -7,8 +7,8 @@ import (
 	"cinder/text"
 )
 
-// What only a frame that was called has, and a message's frame never: that it
-// may only read, and that something was returned to it.
+// What a message's frame begins without, asked of a frame alone: that it may
+// only read, and that something was returned to it.
 
 func ran(t *testing.T, src string, onlyReads bool, returned string, gas int) (api.Result, *frame) {
 	t.Helper()

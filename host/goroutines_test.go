@@ -75,3 +75,42 @@ func TestHostsAtATime(t *testing.T) {
 	}
 	group.Wait()
 }
+
+// Several askers of one host whose messages call: 7 counts, then 8 counts by
+// CALL, with money, and by DELEGATECALL for 7; a third call counts and fails.
+// Within a message the numbers differ, and between messages they must not.
+func TestCallsAtATime(t *testing.T) {
+	count := "1 0 SLOAD ADD 0 SSTORE "
+	seven := assembled(t, count+callOf("CALL", "8", "1", "9000")+callOf("DELEGATECALL", "8", "", "9000")+callOf("CALL", "9", "0", "2000")+"ADD ADD 0 MSTORE 7 BALANCE 32 MSTORE 0 SLOAD 64 MSTORE 96 0 RETURN")
+	eight, nine := assembled(t, count), assembled(t, count+callOf("CALL", "8", "0", "1000")+"0 JUMP")
+	h := made(t, api.Account{At: n(5), Balance: n(askers * messages)}, api.Account{At: n(7), Code: seven}, api.Account{At: n(8), Code: eight}, api.Account{At: n(9), Code: nine})
+	var group sync.WaitGroup
+	for range askers {
+		group.Go(func() {
+			for range messages {
+				askCalls(t, h)
+			}
+		})
+	}
+	group.Wait()
+	all := n(askers * messages)
+	same(t, "P6: the world at the end", h.World(), []api.Account{
+		{At: n(7), Code: seven, Slots: []api.Slot{{Value: n(2 * askers * messages)}}}, {At: n(8), Balance: all, Code: eight, Slots: []api.Slot{{Value: all}}}, {At: n(9), Code: nine},
+	})
+}
+
+func askCalls(t *testing.T, h *host.Host) {
+	r, e := h.Send(api.Message{From: n(5), To: n(7), Value: n(1), Gas: 20000})
+	// Two of the three calls are Done, and all the money has gone on.
+	if e != api.OK || r.Status != api.Done || len(r.Output) != 96 || r.Output[:64] != bytes32(2, 0) {
+		t.Errorf("P6: Send: %+v, %d", r, e)
+	}
+	world := h.World()
+	if sum(world) != n(askers*messages) {
+		t.Errorf("P7: the sum of money is %x", sum(world))
+	}
+	eight := world[len(world)-2]
+	if len(eight.Slots) != 1 || eight.Slots[0].Value != eight.Balance {
+		t.Errorf("P6: a world within a message: %+v", eight)
+	}
+}

@@ -20,10 +20,10 @@ func isCall(op int) bool { return op == 241 || op == 244 || op == 250 }
 
 func isReckoning(op int) bool { return op >= 1 && op <= 11 || op >= 16 && op <= 29 }
 
-// inTable: the instructions that the document's table has, but for the calls.
+// inTable: the instructions that the document's table has.
 func inTable(op int) bool {
 	switch {
-	case op == 0, isReckoning(op), op >= 48 && op <= 49, op >= 51 && op <= 57, op >= 61 && op <= 62, op >= 80 && op <= 164, op == 243, op == 253:
+	case op == 0, isReckoning(op), op >= 48 && op <= 49, op >= 51 && op <= 57, op >= 61 && op <= 62, op >= 80 && op <= 164, op == 243, op == 253, isCall(op):
 		return true
 	}
 	return false
@@ -33,9 +33,6 @@ func inTable(op int) bool {
 // fails, and JUMP, since at 0 stands no JUMPDEST.
 func TestEveryByte(t *testing.T) {
 	for op := range 256 {
-		if isCall(op) {
-			continue
-		}
 		code := times("\x5f", 20) + string([]byte{byte(op)})
 		if !inTable(op) || op == 86 {
 			fails(t, "the byte "+strconv.Itoa(op), code, "", 100000)
@@ -67,6 +64,10 @@ func taken(op int) int {
 		return op - 142
 	case op >= 160 && op <= 164:
 		return op - 158
+	case op == 241:
+		return 7
+	case isCall(op):
+		return 6
 	}
 	return 0
 }
@@ -78,7 +79,7 @@ func laid(op int) int {
 		return 1
 	case op == 49, op == 53, op == 81, op == 84, op == 92, op >= 144 && op <= 159, op == 0, op == 91:
 		return 0
-	case isReckoning(op):
+	case isReckoning(op), isCall(op):
 		return 1 - taken(op)
 	}
 	return -taken(op)

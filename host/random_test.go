@@ -9,10 +9,11 @@ import (
 	"cinder/api"
 	"cinder/host"
 	"cinder/text"
+	"cinder/word"
 )
 
-// compare sends messages to a host and to the plain machine, and gives how they
-// ended.
+// compare sends messages to a host and to the plain machine, asks at each for
+// what follows too (P7 to P9), and gives how they ended.
 func compare(t *testing.T, world []api.Account, messages []api.Message) []uint8 {
 	t.Helper()
 	h, e := host.New(world)
@@ -29,12 +30,45 @@ func compare(t *testing.T, world []api.Account, messages []api.Message) []uint8 
 		if told(r) != told(want) || e != wantE {
 			t.Fatalf("P6: Send(%+v) = %s, %d, want %s, %d\nin %x", m, told(r), e, told(want), wantE, world)
 		}
-		if got, want := told(h.World()), told(plain.list()); got != want {
+		after := h.World()
+		if got, want := told(after), told(plain.list()); got != want {
 			t.Fatalf("P6: World() behind %+v = %s, want %s\nin %x", m, got, want, world)
 		}
+		follows(t, world, after)
 		ends = append(ends, r.Status)
 	}
 	return ends
+}
+
+// follows asks for what holds however messages end: the sum of money (P7), and
+// the slots of those whose code can't change them (P9).
+func follows(t *testing.T, world, after []api.Account) {
+	t.Helper()
+	if sum(after) != sum(world) {
+		t.Fatalf("P7: the sum of money is %x, was %x\nin %x", sum(after), sum(world), world)
+	}
+	for _, a := range after {
+		if !strings.Contains(a.Code, "\x55") && !strings.Contains(a.Code, "\xf4") && told(a.Slots) != told(slotsAt(world, a.At)) {
+			t.Fatalf("P9: the slots of %x are %x\nin %x", a.At, a.Slots, world)
+		}
+	}
+}
+
+func sum(world []api.Account) api.Word {
+	var all api.Word
+	for _, a := range world {
+		all, _ = word.Calc(1, all, a.Balance, none)
+	}
+	return all
+}
+
+func slotsAt(world []api.Account, at api.Word) []api.Slot {
+	for _, a := range world {
+		if a.At == at {
+			return a.Slots
+		}
+	}
+	return nil
 }
 
 var numbers = []string{"0", "1", "2", "3", "5", "7", "9", "31", "32", "33", "64", "100", "255", "256", "500", "1000", "65504", "65535", "65536", high64, high192, signBit, maxHex}
@@ -65,6 +99,8 @@ func anyText(random *rand.Rand) string {
 			labels = labels[1:]
 		}
 		switch random.Intn(16) {
+		case 3, 4:
+			src.WriteString(anyCall(random))
 		case 0:
 			src.WriteString(anyNumber(random) + " @" + string(rune('a'+random.Intn(2))) + " JUMPI ")
 		case 1:
@@ -85,7 +121,52 @@ func anyText(random *rand.Rand) string {
 	return src.String()
 }
 
+// anyCall is mostly of an account that there is, with money that it has.
+func anyCall(random *rand.Rand) string {
+	var src strings.Builder
+	for range 4 {
+		src.WriteString(numbers[random.Intn(11)] + " ")
+	}
+	name := []string{"CALL ", "CALL ", "DELEGATECALL ", "STATICCALL "}[random.Intn(4)]
+	if name == "CALL " {
+		src.WriteString([]string{"0 ", "0 ", "1 ", "7 ", "20 ", "CALLVALUE ", "ADDRESS BALANCE ", anyNumber(random) + " "}[random.Intn(8)])
+	}
+	src.WriteString([]string{"0 ", "1 ", "2 ", "3 ", "4 ", "ADDRESS ", "CALLER ", anyNumber(random) + " "}[random.Intn(8)])
+	src.WriteString([]string{"GAS ", "GAS ", "GAS ", "1000 ", "3000 ", "300 ", anyNumber(random) + " "}[random.Intn(7)])
+	src.WriteString(name)
+	src.WriteString([]string{"", "", "POP ", "9 SSTORE ", "32 MSTORE ", "RETURNDATASIZE 0 0 RETURNDATACOPY ", "RETURNDATASIZE 8 TSTORE ", "GAS 7 SSTORE ", "@a JUMPI "}[random.Intn(9)])
+	return src.String()
+}
+
+var gentle = []string{"1 K SSTORE", "GAS K SSTORE", "0 K SSTORE", "N K SSTORE", "N K TSTORE", "K SLOAD N ADD K SSTORE", "K TLOAD N ADD K TSTORE", "K TLOAD M MSTORE", "K SLOAD M MSTORE",
+	"CALLER M MSTORE", "ADDRESS BALANCE M MSTORE", "CALLVALUE M MSTORE8", "0 0 LOG0", "K N M LOG1", "GAS CALLER N M LOG2", "CALLDATASIZE 0 M CALLDATACOPY", "K CALLDATALOAD M MSTORE",
+	"RETURNDATASIZE 0 M RETURNDATACOPY", "RETURNDATASIZE K SSTORE", "MSIZE M MSTORE", "GAS M MSTORE"}
+
+// gentleText is one of a program that seldom fails by itself, so that calls of
+// it and in it end in all ways.
+func gentleText(random *rand.Rand) string {
+	var src strings.Builder
+	for range random.Intn(8) {
+		if random.Intn(2) == 0 {
+			src.WriteString(anyCall(random))
+			continue
+		}
+		line := gentle[random.Intn(len(gentle))]
+		for _, letter := range []string{"K", "N", "M"} {
+			number := strconv.Itoa(random.Intn(4) * random.Intn(17))
+			line = strings.ReplaceAll(" "+line+" ", " "+letter+" ", " "+number+" ")
+		}
+		src.WriteString(line)
+	}
+	return src.String() + []string{" STOP", "", " 40 0 RETURN", " 64 0 RETURN", " MSIZE 0 RETURN", " 9 0 REVERT", " 64 0 REVERT", " 0 JUMP"}[random.Intn(8)] + " a:"
+}
+
 func anyCode(random *rand.Rand) string {
+	if random.Intn(2) == 0 {
+		if code, e, _ := text.Assemble(gentleText(random)); e == api.OK {
+			return code
+		}
+	}
 	if random.Intn(6) == 0 {
 		raw := make([]byte, random.Intn(60))
 		for i := range raw {
@@ -94,7 +175,7 @@ func anyCode(random *rand.Rand) string {
 				raw[i] = byte(95 + random.Intn(3))
 			}
 		}
-		return withoutCalls(string(raw))
+		return string(raw)
 	}
 	for {
 		if code, e, _ := text.Assemble(anyText(random)); e == api.OK {
@@ -103,16 +184,11 @@ func anyCode(random *rand.Rand) string {
 	}
 }
 
-// withoutCalls: the plain machine does not know the calls of other code.
-func withoutCalls(code string) string {
-	return strings.NewReplacer("\xf1", "\x01", "\xf4", "\x02", "\xfa", "\x03").Replace(code)
-}
-
 func anyMessage(random *rand.Rand) api.Message {
 	m := api.Message{From: n(random.Intn(5)), To: n(random.Intn(5)), Value: n(random.Intn(30)), Gas: random.Intn(4000)}
 	m.Data = times(string([]byte{byte(random.Intn(256))}), random.Intn(80))
 	switch random.Intn(8) {
-	case 0:
+	case 0, 3, 4:
 		m.Gas = 100000
 	case 1:
 		m.Gas = random.Intn(400)
@@ -125,7 +201,7 @@ func anyMessage(random *rand.Rand) api.Message {
 func TestAgainstPlainMachine(t *testing.T) {
 	random := rand.New(rand.NewSource(6))
 	count := map[uint8]int{}
-	for range 800 {
+	for range 1500 {
 		var world []api.Account
 		for at := range 4 {
 			world = append(world, api.Account{At: n(at), Balance: n(random.Intn(60)), Code: anyCode(random), Slots: slots(random.Intn(4))})
@@ -149,13 +225,41 @@ func TestAgainstPlainMachine(t *testing.T) {
 func TestEveryGas(t *testing.T) {
 	random := rand.New(rand.NewSource(7))
 	for range 25 {
-		world := []api.Account{{At: n(1), Balance: n(5)}, {At: n(2), Code: anyCode(random), Slots: slots(2)}}
+		world := []api.Account{{At: n(1), Balance: n(5)}, {At: n(2), Code: anyCode(random), Slots: slots(2)}, {At: n(3), Balance: n(8), Code: anyCode(random)}}
 		var messages []api.Message
-		for gas := range 600 {
+		for gas := range 1500 {
 			messages = append(messages, api.Message{From: n(1), To: n(2), Data: "some", Gas: gas})
 		}
 		compare(t, world, messages)
 	}
+}
+
+// P8: a call that reads only changes nothing, whatever it calls.
+func TestReadingChangesNothing(t *testing.T) {
+	random := rand.New(rand.NewSource(9))
+	ends := map[string]int{}
+	for range 1500 {
+		world := []api.Account{{At: n(0), Balance: n(9), Code: anyCode(random), Slots: slots(3)}, {At: n(1), Balance: n(30), Code: anyCode(random)}, {At: n(2), Code: anyCode(random), Slots: slots(1)},
+			{At: n(7), Code: assembled(t, "64 0 0 0 "+strconv.Itoa(random.Intn(3))+" GAS STATICCALL 0 MSTORE 32 0 RETURN")}}
+		h := made(t, world...)
+		r := sent(t, h, api.Message{From: n(5), To: n(7), Gas: 100000})
+		if r.Status != api.Done || len(r.Logs) != 0 {
+			t.Fatalf("P8: a call that reads only: %+v\nin %x", r, world)
+		}
+		if got := h.World(); told(got) != told(made(t, world...).World()) {
+			t.Fatalf("P8: a call that reads only makes %x\nof %x", got, world)
+		}
+		ends[r.Output]++
+	}
+	if len(ends) != 2 || ends[times("\x00", 32)] < 100 || ends[times("\x00", 31)+"\x01"] < 100 {
+		t.Errorf("calls end %x: this shows little", ends)
+	}
+}
+
+// assembledCall is a code that calls itself.
+func assembledCall(name string) string {
+	code, _, _ := text.Assemble("1 0 SLOAD ADD 0 SSTORE 32 0 32 0 1 ADDRESS GAS " + name + " GAS 1 TSTORE 0 0 LOG0 MSIZE 0 REVERT")
+	return code
 }
 
 // FuzzSend: P1: at no code, data and gas does Send panic, and P6 holds there.
@@ -164,6 +268,9 @@ func FuzzSend(f *testing.F) {
 	for range 40 {
 		f.Add(anyCode(random), "data", 1000, uint64(3))
 	}
+	f.Add(assembledCall("CALL"), "", 100000, uint64(1))
+	f.Add(assembledCall("DELEGATECALL"), "", 5000, uint64(1))
+	f.Add(assembledCall("STATICCALL"), "", 5000, uint64(1))
 	f.Add("", "", -1, uint64(0))
 	f.Add("\x5b\x5f\x56", "", 100000, uint64(100))
 	f.Fuzz(func(t *testing.T, code, data string, gas int, value uint64) {
@@ -171,6 +278,6 @@ func FuzzSend(f *testing.F) {
 			code = code[:1000]
 		}
 		m := api.Message{From: n(5), To: n(7), Value: api.Word{value}, Data: data, Gas: gas}
-		compare(t, before(withoutCalls(code)), []api.Message{m, m})
+		compare(t, before(code), []api.Message{m, m})
 	})
 }

@@ -94,18 +94,26 @@ func (t *trail) move(amount, from, to api.Word) {
 	t.set(cell{kind: money, at: to}, reckon(opcode.Add, t.balance(to), amount))
 }
 
-// deliver does what a message asks for. Its money must be there.
-func (t *trail) deliver(m api.Message) api.Result {
+// wake runs a frame, once the money that it brings has moved; that must be
+// there. If it does not end Done, all is as it was ahead of both.
+func (t *trail) wake(f *frame, amount, from, to api.Word) api.Result {
 	start := t.mark()
-	t.move(m.Value, m.From, m.To)
-	f := newFrame(t, t.accounts[m.To].code)
-	f.self, f.caller, f.value = m.To, m.From, m.Value
-	f.data, f.gas = m.Data, m.Gas
+	t.move(amount, from, to)
 	result := f.run()
 	if result.Status != api.Done {
 		t.takeBack(start)
-		return result
 	}
-	result.Logs = t.logs
+	return result
+}
+
+// deliver does what a message asks for.
+func (t *trail) deliver(m api.Message) api.Result {
+	f := newFrame(t, t.accounts[m.To].code)
+	f.depth = 1
+	f.self, f.caller, f.value = m.To, m.From, m.Value
+	f.data, f.gas = m.Data, m.Gas
+	result := t.wake(f, m.Value, m.From, m.To)
+	// A list of its own: behind the trail's may still stand what was taken back.
+	result.Logs = append(result.Logs, t.logs...)
 	return result
 }
